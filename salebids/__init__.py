@@ -1,0 +1,1 @@
+"""Salebids: rules of a sale that go by order alone."""
