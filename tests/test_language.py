@@ -15,6 +15,11 @@ BUILTINS = (
     "tuple", "dict", "set", "isinstance", "ord", "repr", "any", "all", "divmod", "ValueError", "TypeError", "KeyError",
     "IndexError", "LookupError", "ArithmeticError", "property", "staticmethod", "classmethod", "iter", "next", "super",
 )
+BUILTIN_METHODS = (
+    "append", "clear", "copy", "count", "endswith", "extend", "find", "get", "index", "insert", "isalnum", "isalpha",
+    "isdigit", "items", "join", "keys", "lower", "partition", "pop", "remove", "replace", "rpartition", "setdefault",
+    "split", "splitlines", "startswith", "strip", "update", "upper", "values",
+)
 EVERY_BUILTIN = tuple(__builtins__ if isinstance(__builtins__, dict) else dir(__builtins__))
 
 
@@ -93,6 +98,90 @@ class Language(unittest.TestCase):
                     self.assertIn(node.comparators[0].value, (None, True, False))
                 if isinstance(node, ast.ExceptHandler):
                     self.assertIsNotNone(node.type, name)
+
+    def test_imported_names_are_defined_in_that_very_file(self):
+        defined = {name[:-3]: bound_at_top(tree) for name, tree in trees()}
+        for name, tree in trees():
+            for node in tree.body:
+                if isinstance(node, ast.ImportFrom):
+                    for alias in node.names:
+                        self.assertIsNone(alias.asname, name)
+                        self.assertIn(alias.name, defined[node.module.split(".")[1]], name)
+
+    def test_no_files_import_from_each_other(self):
+        needs = {}
+        for name, tree in trees():
+            needs[name[:-3]] = {node.module.split(".")[1] for node in tree.body if isinstance(node, ast.ImportFrom)}
+        while needs:
+            free = [name for name in needs if not needs[name] & set(needs)]
+            self.assertTrue(free, needs)
+            for name in free:
+                del needs[name]
+
+    def test_one_binding_for_each_name(self):
+        for name, tree in trees():
+            imported = [alias.name for node in tree.body if isinstance(node, ast.ImportFrom) for alias in node.names]
+            bound = imported + bound_at_top(tree)
+            self.assertEqual(len(bound), len(set(bound)), name)
+            classes = [node.name for node in tree.body if isinstance(node, ast.ClassDef)]
+            for node in ast.walk(tree):
+                if isinstance(node, ast.Name) and isinstance(node.ctx, ast.Store):
+                    self.assertNotIn(node.id, imported + classes, name)
+                if isinstance(node, ast.arg):
+                    self.assertNotIn(node.arg, imported + classes, name)
+
+    def test_helpers_are_defined_once(self):
+        found = [node.name for name, tree in trees() for node in tree.body if isinstance(node, ast.FunctionDef)]
+        self.assertEqual(len(found), len(set(found)))
+
+    def test_methods_and_attributes(self):
+        methods, stored, read = set(), set(), set()
+        for name, tree in trees():
+            for node in ast.walk(tree):
+                if isinstance(node, ast.ClassDef):
+                    methods |= {inner.name for inner in node.body if isinstance(inner, ast.FunctionDef)}
+                if isinstance(node, ast.Attribute):
+                    (stored if isinstance(node.ctx, ast.Store) else read).add(node.attr)
+        self.assertEqual(methods & stored, set())
+        self.assertEqual({attr for attr in read if attr not in methods | stored | set(BUILTIN_METHODS)}, {"__init__"} & read)
+
+    def test_calls(self):
+        for name, tree in trees():
+            for node in ast.walk(tree):
+                if isinstance(node, ast.Call) and isinstance(node.func, ast.Name) and node.func.id in BUILTINS:
+                    named = [word.arg for word in node.keywords]
+                    self.assertTrue(all(word in ("key", "reverse", "default", "start") for word in named), name)
+                    self.assertFalse(any(isinstance(passed, ast.Starred) for passed in node.args), name)
+                if isinstance(node, ast.Call) and isinstance(node.func, ast.Attribute):
+                    self.assertTrue(node.func.attr not in BUILTIN_METHODS or not node.keywords, name)
+                self.assertNotIsInstance(node, (ast.Yield, ast.YieldFrom, ast.NamedExpr, ast.AnnAssign), name)
+
+    def test_sets_stand_in_sorted_alone(self):
+        for name, tree in trees():
+            inside = [node.args[0] for node in ast.walk(tree) if isinstance(node, ast.Call)
+                      and isinstance(node.func, ast.Name) and node.func.id == "sorted"]
+            for node in ast.walk(tree):
+                self.assertNotIsInstance(node, (ast.Set, ast.SetComp), name)
+                if isinstance(node, ast.Call) and isinstance(node.func, ast.Name) and node.func.id == "set":
+                    self.assertTrue(any(node in ast.walk(place) for place in inside), name)
+
+    def test_loops_do_not_modify_what_they_iterate_over(self):
+        modifying = ("append", "extend", "pop", "remove", "insert", "clear", "update", "setdefault")
+        for name, tree in trees():
+            for loop in [node for node in ast.walk(tree) if isinstance(node, ast.For)]:
+                over = {node.id for node in ast.walk(loop.iter) if isinstance(node, ast.Name)}
+                for node in [inner for row in loop.body for inner in ast.walk(row)]:
+                    if isinstance(node, ast.Attribute) and node.attr in modifying and isinstance(node.value, ast.Name):
+                        self.assertNotIn(node.value.id, over, (name, loop.lineno))
+                    if isinstance(node, ast.Subscript) and isinstance(node.ctx, ast.Store):
+                        names = {inner.id for inner in ast.walk(node.value) if isinstance(inner, ast.Name)}
+                        self.assertFalse(names & over, (name, loop.lineno))
+
+
+def bound_at_top(tree):
+    """The names that functions, classes and assignments of a file bind."""
+    found = [node.name for node in tree.body if isinstance(node, (ast.FunctionDef, ast.ClassDef))]
+    return found + [node.targets[0].id for node in tree.body if isinstance(node, ast.Assign)]
 
 
 if __name__ == "__main__":
