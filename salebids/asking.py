@@ -2,9 +2,11 @@
 
 from salebids.checks import check_integer, check_most, check_question, check_rule
 from salebids.errors import InvalidCase
-from salebids.questions import amount_of, holders, is_case, moving_seats, silent_seat
+from salebids.questions import amount_of, is_case, moving_seats, silent_seat
 from salebids.runs import pieces
-from salebids.search import Search, bid_marks, places_of, prices, search_differences, search_pairs
+from salebids.search import Search, places_of, search_differences, search_pairs
+from salebids.settings import bid_marks, case_zone, moved_marks
+from salebids.sums import held_values, prices, sums_alone, value_of
 from salebids.zones import ENDLESS, narrowed, whole_zone
 
 
@@ -90,26 +92,11 @@ def search_alone(search, rule, question, most):
             return
 
 
-def sums_alone(question, marks, outcome):
-    """The list of pairs of marks, those that are added and those that are taken off, of which the greatest counts."""
-    if outcome is None:
-        return [((bid,), ()) for bid in marks.values()] if question[0] == "waste" else []
-    who, price = outcome
-    if question[0] == "waste":
-        return [((bid,), (marks[who],)) for bid in marks.values()]
-    if question[0] == "charge":
-        return [((price,), (marks[who],))]
-    return [((marks[seat],), (price,)) for seat in marks if seat != who]
-
-
 def search_shake(search, rule, question, most):
     """Searches a question in which a bid is moved by a step at most."""
-    seat, step = question[1:]
     before = bid_marks(rule.seats)
-    new = len(rule.seats) + 1
-    after = {name: (new, 0) if name == seat else before[name] for name in before}
-    near = narrowed(whole_zone(new + 1, most), new, before[seat][0], step)
-    search_differences(search, (rule, after), (rule, before), narrowed(near, before[seat][0], new, step))
+    after = moved_marks(question, rule.seats)
+    search_differences(search, (rule, after), (rule, before), case_zone(question, rule.seats, most))
 
 
 def search_seller(search, rule, question, most):
@@ -117,7 +104,7 @@ def search_seller(search, rule, question, most):
     befores = []
     afters = []
     for zone, outcome in whole_pieces(rule, most):
-        paid = () if outcome is not None and outcome[0] == question[1] else prices(outcome)
+        paid = prices(outcome, question[1])
         afters.append((zone, paid, ()))
         befores.append((zone, (), paid))
     search_pairs(search, silenced(befores, rule, question), afters, moving_numbers(rule, question))
@@ -125,9 +112,7 @@ def search_seller(search, rule, question, most):
 
 def search_gains(search, rule, question, most):
     """Searches a question in which pay-offs count, for each value that the thing may have behind the move."""
-    marks = bid_marks(rule.seats)
-    held = holders(question)
-    values = {seat: marks[held[seat]] for seat in held}
+    values = held_values(question, bid_marks(rule.seats))
     found = whole_pieces(rule, most)
     moving = moving_numbers(rule, question)
     for worth in sorted(set(list(values.values()))) + [None]:
@@ -142,11 +127,6 @@ def search_gains(search, rule, question, most):
 def whole_pieces(rule, most):
     """The pieces of a rule for all its bids."""
     return pieces(rule, bid_marks(rule.seats), whole_zone(len(rule.seats) + 1, most))
-
-
-def value_of(outcome, values):
-    """The mark of the value that the thing has for those who got it, None if their pay-off does not count."""
-    return None if outcome is None else values.get(outcome[0])
 
 
 def sums_before(worth, values, outcome):

@@ -2,7 +2,8 @@
 
 from salebids.checks import check_integer, check_most, check_rule, check_same_seats
 from salebids.runs import pieces
-from salebids.search import Search, bid_marks, search_differences
+from salebids.search import Search, search_differences
+from salebids.settings import bid_marks
 from salebids.zones import ENDLESS, greatest_sum, least_numbers, reaching, whole_zone
 
 

@@ -4,6 +4,7 @@ A *sum* is a tuple (zone, plus, minus): the marks in the tuple `plus` less those
 """
 
 from salebids.runs import pieces
+from salebids.sums import prices
 from salebids.zones import ENDLESS, are_apart, greatest_sum, joined, lies_in, reaching
 
 
@@ -31,16 +32,6 @@ class Search:
         """Numbers for which the sum that was found is at least `least`."""
         zone, plus, minus = self.found
         return reaching(zone, plus, minus, least)
-
-
-def bid_marks(seats):
-    """The marks of the bids of seats: the numbers from 1 on."""
-    return {seat: (at + 1, 0) for at, seat in enumerate(seats)}
-
-
-def prices(outcome):
-    """The tuple of the price of an outcome, empty if nothing is sold."""
-    return () if outcome is None else (outcome[1],)
 
 
 def search_differences(search, one, other, zone):

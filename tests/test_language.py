@@ -145,6 +145,45 @@ class Language(unittest.TestCase):
         self.assertEqual(methods & stored, set())
         self.assertEqual({attr for attr in read if attr not in methods | stored | set(BUILTIN_METHODS)}, {"__init__"} & read)
 
+    def test_exits(self):
+        """The rows of `__exit__` are only tests of its `kind`, and attributes that are assigned attributes."""
+        found = [node for name, tree in trees() for node in ast.walk(tree)
+                 if isinstance(node, ast.FunctionDef) and node.name == "__exit__"]
+        for function in found:
+            self.assertEqual([passed.arg for passed in function.args.args], ["self", "kind", "value", "trace"])
+            rows = list(function.body)
+            while rows:
+                row = rows.pop()
+                if isinstance(row, ast.If):
+                    self.assertIn(ast.unparse(row.test), ("kind is None", "kind is not None"))
+                    rows += row.body + row.orelse
+                else:
+                    self.assertIsInstance(row, ast.Assign)
+                    self.assertEqual([part.__class__ for part in (*row.targets, row.value)], [ast.Attribute] * 2)
+
+    def test_operators(self):
+        """Operators and properties assign nothing but local names, and call no method that modifies something."""
+        allowed = ("__init__", "__enter__", "__exit__", "__setitem__")
+        modifying = ("append", "extend", "pop", "remove", "insert", "clear", "update", "setdefault", "sort")
+        for name, tree in trees():
+            for node in ast.walk(tree):
+                if not isinstance(node, ast.FunctionDef) or node.name in allowed:
+                    continue
+                if not node.name.startswith("__") and not any(ast.unparse(over) == "property" for over in node.decorator_list):
+                    continue
+                for inner in ast.walk(node):
+                    if isinstance(inner, (ast.Attribute, ast.Subscript)):
+                        self.assertIsInstance(inner.ctx, ast.Load, (name, node.name))
+                    if isinstance(inner, ast.Attribute):
+                        self.assertNotIn(inner.attr, modifying, (name, node.name))
+
+    def test_a_class_with_items_is_not_iterated_over(self):
+        for name, tree in trees():
+            for node in ast.walk(tree):
+                if isinstance(node, ast.ClassDef):
+                    methods = [inner.name for inner in node.body if isinstance(inner, ast.FunctionDef)]
+                    self.assertEqual("__getitem__" in methods, "__iter__" in methods, node.name)
+
     def test_calls(self):
         for name, tree in trees():
             for node in ast.walk(tree):
