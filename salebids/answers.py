@@ -43,14 +43,14 @@ class Course:
         pair = self.line_open(rule)
         if pair is not None:
             return pair
-        for condition, done in rule.steps:
-            pair = None if condition is None else self.asked_by(condition)
-            answer = True if pair is None else compared(self.zone, pair[0], pair[1])
+        for condition, done in rule.steps[:-1]:
+            pair = self.asked_by(condition)
+            answer = compared(self.zone, pair[0], pair[1])
             if answer is None:
                 return pair
-            if condition is None or answer == (condition[1] == "<="):
+            if answer == (condition[1] == "<="):
                 return self.done_open(rule, done)
-        return None
+        return self.done_open(rule, rule.steps[-1][1])
 
     def line_open(self, rule):
         """The same for the lines of a rule alone; the marks of those that are told are put to `marks`."""

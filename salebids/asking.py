@@ -38,7 +38,7 @@ def shown(rule, question, least, *, most=None):
     numbers = (0,) * (2 * many)
     if least > 0:
         search = searched(rule, question, most, least)
-        if search.best < least:
+        if not search.is_over():
             return None
         numbers = search.numbers(least)
     places = places_of(many, moving_numbers(rule, question), many)
@@ -56,7 +56,7 @@ def truthful(rule):
 
 def exceeds(rule, question, limit):
     """Whether some case of a question has an amount that is greater than a limit from 0 on."""
-    return searched(rule, question, None, limit + 1).best > limit
+    return searched(rule, question, None, limit + 1).is_over()
 
 
 def searched(rule, question, most, enough):

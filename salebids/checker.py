@@ -7,7 +7,7 @@ from salebids.rules import Rule
 from salebids.settings import bid_marks, question_setting, rules_setting
 from salebids.sums import prices, sum_moved, sums_alone
 from salebids.written import is_integer
-from salebids.zones import compared, greatest_sum, narrowed
+from salebids.zones import ENDLESS, compared, greatest_sum, narrowed
 
 LENGTHS = {"most": 4, "more": 4, "lead": 4, "passes": 4, "same": 3, "parts": 3}
 
@@ -123,7 +123,8 @@ def is_shown(claim, course):
     if claim[0] == "same":
         return is_same_sale(zone, sold[0], sold[1])
     totals = [(prices(sold[0]), prices(sold[1]))] if claim[0] == "lead" else amounts(course, claim[2])
-    return all([greatest_sum(zone, plus, minus) <= claim[3] for plus, minus in totals])
+    tops = [greatest_sum(zone, plus, minus) for plus, minus in totals]
+    return all([top != ENDLESS and top <= claim[3] for top in tops])
 
 
 def is_same_sale(zone, first, second):

@@ -18,7 +18,7 @@ class Search:
 
     def is_over(self):
         """Whether what was found is enough."""
-        return self.best >= self.enough
+        return self.best == ENDLESS or self.best >= self.enough
 
     def offer(self, total):
         """Takes a sum that is greater than those before it."""

@@ -5,7 +5,7 @@ zone[x][y] is the greatest value of number x less number y, or ENDLESS if there 
 along its conditions. No zone is empty: None stands where nothing is left. A mark (x, c) stands for number x plus c.
 """
 
-# More than any sum of bids, written integers and amounts that come up: none of these has more than 40 digits.
+# More than any sum of written integers and steps. It is compared by == alone with what may be farther off, like limits.
 ENDLESS = 10 ** 60
 
 
@@ -19,7 +19,7 @@ def narrowed(zone, x, y, most):
     """The zone in which number x less number y is at most `most`, too; None if nothing is left."""
     if zone[x][y] <= most:
         return zone
-    if zone[y][x] + most < 0:
+    if zone[y][x] != ENDLESS and zone[y][x] + most < 0:
         return None
     return tuple([shortened(row, x, y, most, zone[y]) for row in zone])
 

@@ -259,7 +259,8 @@ class Wishes(unittest.TestCase):
         before = seen(book)
         questions = (
             ("lie", "c"), ("lie", "top"), ("ring", ("b", "a")), ("ring", ("a", "c")), ("ring", ("x", "y", "z")),
-            ("names", "a", "c"), ("names", "c", "a"), ("seller", "next"), ("shake", "c", 0),
+            ("names", "a", "c"), ("names", "c", "a"), ("seller", "next"), ("shake", "c", 0), ("lie", "lie"),
+            ("ring", ("a", "ring")), ("ring", ("ring", "a")), ("names", "names", "a"), ("shake", "shake", 10 ** 12),
         )
         for question in questions:
             self.assertEqual(caught(Broken, book.wish, ("most", "now", question, 10 ** 39)).index, 2)

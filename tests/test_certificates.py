@@ -28,7 +28,7 @@ TEXTS = (
 def limits_near(top):
     """Limits at, above and below a greatest value, below 0, and far away."""
     near = [] if top is None else [top - 1, top, top + 1]
-    return near + [-MANY, -1, 0, 1, 7, MANY]
+    return near + [-MANY, -1, 0, 1, 7, MANY, MANY ** 3]
 
 
 class Most(unittest.TestCase):
@@ -98,7 +98,7 @@ class Most(unittest.TestCase):
     def test_errors_in_their_order(self):
         for value in odd_values() + [LOW]:
             if value.__class__ is not Rule:
-                self.assertIs(caught(NotARule, certify_most, value, value, value).given, value)
+                self.assertIs(caught(NotARule, certify_most, value, None, None).given, value)
         for value in wrong_questions() + [("lie", "c"), ("ring", ("b", "a"))]:
             self.assertIs(caught(InvalidQuestion, certify_most, low(), value, None).given, value)
         for value in odd_values():
@@ -140,7 +140,7 @@ class Lead(unittest.TestCase):
     def test_errors_in_their_order(self):
         for value in odd_values() + [LOW]:
             if value.__class__ is not Rule:
-                self.assertIs(caught(NotARule, certify_lead, value, value, value).given, value)
+                self.assertIs(caught(NotARule, certify_lead, value, LOW, None).given, value)
                 self.assertIs(caught(NotARule, certify_lead, low(), value, None).given, value)
             if value.__class__ is not int:
                 self.assertIs(caught(InvalidNumber, certify_lead, low(), second(), value).given, value)
@@ -179,7 +179,7 @@ class Same(unittest.TestCase):
     def test_errors_in_their_order(self):
         for value in odd_values() + [LOW]:
             if value.__class__ is not Rule:
-                self.assertIs(caught(NotARule, certify_same, value, value).given, value)
+                self.assertIs(caught(NotARule, certify_same, value, LOW).given, value)
                 self.assertIs(caught(NotARule, certify_same, low(), value).given, value)
         other = second()
         self.assertIs(caught(OtherSeats, certify_same, low(), other).given, other)

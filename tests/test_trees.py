@@ -7,7 +7,7 @@ import unittest
 from salebids.asking import greatest
 from salebids.checker import accepts
 from salebids.rules import Rule
-from tests.papers import all_cases, flat, second_check, seats_of, spoiled, written_tree
+from tests.papers import all_cases, flat, second_check, seats_of, shaped, spoiled, written_tree
 from tests.reckoning import every_question, movers, small_text
 from tests.samples import FIRST_TEXT, Agrees, Refuses, odd_values
 from tests.test_books import LOW
@@ -63,6 +63,21 @@ class Form(unittest.TestCase):
         self.assertIs(accepts(CLAIM, put_in(TREE, 0, (A, B, 1, 1))), False)
         self.assertIs(accepts(CLAIM, TREE + ((),)), False)
         self.assertIs(accepts(CLAIM, TREE + ((A, B, 8, 9), (), ())), False)
+
+    def test_all_forms_of_few_nodes(self):
+        """Nodes with indexes of all kinds, where marks and facts are right for each of them."""
+        claim = ("most", ONE, ("charge",), 3)
+        accepted = []
+        for many, indexes in ((1, range(-1, 3)), (2, range(-2, 4)), (3, range(-1, 4)), (4, range(1, 4))):
+            nodes = [()] + [(0, 0, yes, no) for yes in indexes for no in indexes]
+            for tree in itertools.product(nodes, repeat=many):
+                self.assertIs(accepts(claim, tree), shaped(tree, []), tree)
+                accepted += [tree] if shaped(tree, []) else []
+        self.assertEqual(len(accepted), 3)
+        nodes = [()] + [(0, 0, yes, no) for yes, no in itertools.permutations(range(1, 5), 2)]
+        found = [tree for tree in itertools.product(nodes, repeat=4) if accepts(claim, tree + ((),))]
+        self.assertEqual(found, [tree for tree in itertools.product(nodes, repeat=4) if shaped(tree + ((),), [])])
+        self.assertGreater(len(found), 8)
 
     def test_indexes_that_do_not_lie_behind(self):
         for index in (0, 1, -1, -3, 7, 8, EDGE):
@@ -256,6 +271,16 @@ class Limits(unittest.TestCase):
         self.assertIs(accepts((*claim, 10 ** 39), ((A, EDGE, 1, 2), (), ())), False)
         self.assertIs(accepts(("lead", "seats a\nsell a at a", "seats a\nkeep", 10 ** 39), ((),)), False)
         self.assertIs(accepts(("lead", "seats a\nkeep", "seats a\nsell a at a", 0), ((),)), True)
+
+    def test_numbers_that_are_very_far_off(self):
+        far = 10 ** 300
+        self.assertIs(accepts(("most", "seats a\nkeep", ("waste",), far), ((),)), False)
+        self.assertIs(accepts(("lead", "seats a\nsell a at a", "seats a\nkeep", far), ((),)), False)
+        moved = (NEW_A, B, (), ())
+        rest = (A, B, moved, moved)
+        for head in ((A, far, (), rest), (A, far, rest, ()), (far, NEW_A, rest, ()), (-far, A, rest, ())):
+            self.assertIs(accepts(CLAIM, flat(head)), False)
+        self.assertIs(accepts(CLAIM, flat((A, -far, rest, ()))), True)
 
     def test_the_same_outcomes(self):
         for one, other, good in (
