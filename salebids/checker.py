@@ -4,10 +4,10 @@ from salebids.answers import first_course
 from salebids.errors import InvalidText
 from salebids.questions import amount_of, is_bids, is_case, is_question, revenue
 from salebids.rules import Rule
-from salebids.settings import bid_marks, question_setting, rules_setting
+from salebids.settings import question_setting, rules_setting
 from salebids.sums import prices, sum_moved, sums_alone
 from salebids.written import is_integer
-from salebids.zones import ENDLESS, compared, greatest_sum, narrowed
+from salebids.zones import ENDLESS, compared, greatest_sum, halves
 
 LENGTHS = {"most": 4, "more": 4, "lead": 4, "passes": 4, "same": 3, "parts": 3}
 
@@ -106,9 +106,7 @@ def both_ways(course, node, setting):
     if course is None:
         return None, None
     course.left_open()
-    x, more = mark_named(node[0], setting)
-    y, less = mark_named(node[1], setting)
-    ways = [narrowed(course.zone, y, x, more - less), narrowed(course.zone, x, y, less - more - 1)]
+    ways = halves(course.zone, mark_named(node[0], setting), mark_named(node[1], setting))
     return [None if zone is None else course.within(zone) for zone in ways]
 
 

@@ -70,7 +70,7 @@ def compared(zone, left, right):
 
 
 def halves(zone, left, right):
-    """The zones in which the mark `left` is at least `right`, and less, for marks of which neither is told."""
+    """The zones in which the mark `left` is at least `right`, and in which it is less; None where nothing is left."""
     x, more = left
     y, less = right
     return [narrowed(zone, y, x, more - less), narrowed(zone, x, y, less - more - 1)]

@@ -118,6 +118,12 @@ class Language(unittest.TestCase):
             for name in free:
                 del needs[name]
 
+    def test_each_imported_name_is_used(self):
+        for name, tree in trees():
+            used = {node.id for node in ast.walk(tree) if isinstance(node, ast.Name)}
+            imported = {alias.name for node in tree.body if isinstance(node, ast.ImportFrom) for alias in node.names}
+            self.assertEqual(imported - used, set(), name)
+
     def test_one_binding_for_each_name(self):
         for name, tree in trees():
             imported = [alias.name for node in tree.body if isinstance(node, ast.ImportFrom) for alias in node.names]
